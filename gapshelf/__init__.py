@@ -1,0 +1,1 @@
+"""Gapshelf: a shelf of sorted things with gaps, evened write by write."""
