@@ -4,24 +4,9 @@ from gapshelf.coins import excess_of, over_of
 from gapshelf.deeds import put_writes, take_writes
 from gapshelf.shelves import done
 
-from helper import BOUNDS, all_shelves, many_of, many_shelves, new_keys_of, shelf_at, size_of, told_calm, told_cap
-
-
-def told_excess(bounds, height, shelf):
-    """The words of the promise, stretch by stretch."""
-    excess = 0
-    for level in range(height):
-        size = size_of(bounds, level)
-        for first in range(0, len(shelf), size):
-            many = many_of(shelf[first:first + size])
-            if many > told_calm(bounds, level):
-                excess += many - told_calm(bounds, level)
-    return excess
-
-
-def told_over(bounds, height, shelf):
-    cap = told_cap(bounds, height - 1) if height > 0 else 0
-    return many_of(shelf) - cap if many_of(shelf) > cap else 0
+from helper import (
+    BOUNDS, all_shelves, many_of, many_shelves, new_keys_of, shelf_at, size_of, told_cap, told_excess, told_over,
+)
 
 
 def shelf_of_boards(width, boards):

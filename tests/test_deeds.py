@@ -5,40 +5,8 @@ from gapshelf.errors import Full, NoKey
 
 from helper import (
     BOUNDS, GREAT, all_shelves, assert_own_list, many_of, many_shelves, new_keys_of, numbers_from, put_into, shelf_at,
-    size_of, taken_from, told_cap, walk_deed,
+    size_of, taken_from, told_cap, told_height, told_put, told_seat, walk_deed,
 )
-
-
-def told_seat(shelf, key):
-    return max([place for place, thing in enumerate(shelf) if thing and thing[0] < key], default=0)
-
-
-def told_stretch(bounds, level, place):
-    size = size_of(bounds, level)
-    return [(first, first + size) for first in range(0, place + 1, size) if place < first + size][0]
-
-
-def told_height(bounds, height, shelf, key):
-    roomy = []
-    for level in range(height + 1):
-        first, behind = told_stretch(bounds, level, told_seat(shelf, key))
-        if len([thing for thing in shelf[first:behind] if thing]) < told_cap(bounds, level):
-            roomy.append(level)
-    return min(roomy)
-
-
-def told_put(bounds, height, shelf, key, worth):
-    """The writes of a put of a new key, by the words of the promise."""
-    first, behind = told_stretch(bounds, told_height(bounds, height, shelf, key), told_seat(shelf, key))
-    old = [thing for thing in shelf[first:behind] if thing]
-    things = sorted(old + [(key, worth)])
-    aim = {thing: first + rank * (behind - first) // len(things) for rank, thing in enumerate(things)}
-    going_on = [thing for thing in old if aim[thing] > shelf.index(thing)]
-    going_back = [thing for thing in old if aim[thing] < shelf.index(thing)]
-    writes = []
-    for thing in going_on[::-1] + going_back:
-        writes += [(aim[thing], thing), (shelf.index(thing), ())]
-    return writes + [(aim[(key, worth)], (key, worth))]
 
 
 def shelves_with_heights():
